@@ -1,0 +1,1 @@
+"""Elseput: which locks keep put-or-change statements right."""
