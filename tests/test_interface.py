@@ -1,0 +1,120 @@
+"""The interface: where its functions and classes are defined, and the attributes of its objects."""
+
+import importlib
+import inspect
+import types
+
+from elseput.books import Book
+from elseput.changes import Change
+from elseput.conditions import Condition
+from elseput.contents import contents
+from elseput.shapes import Shape
+from tests.helpers import Case
+
+FUNCTIONS = {
+    "words": ("is_name", "tokens"),
+    "contents": ("contents", "least_content", "parting_content"),
+    "shapes": ("parting_row",),
+    "books": ("merged",),
+}
+METHODS = {
+    ("conditions", "Condition"): ("text", "__call__", "__and__", "__or__", "__invert__"),
+    ("changes", "Change"): ("text", "__call__", "__len__", "__rshift__", "__mul__", "__rmul__"),
+    ("shapes", "Shape"): ("__init__", "text", "action", "__contains__", "__len__", "__iter__"),
+    ("books", "Book"): ("__init__", "text", "__getitem__", "__setitem__", "__contains__", "__len__", "__iter__"),
+    ("tables", "Table"): (
+        "__init__", "put", "enter", "__getitem__", "content_of", "rows", "write", "twin", "__len__",
+    ),
+}
+STATIC = {
+    ("conditions", "Condition"): ("always", "never", "compare", "read"),
+    ("changes", "Change"): ("none", "adding", "setting", "read"),
+    ("shapes", "Shape"): ("read",),
+    ("books", "Book"): ("read",),
+}
+PROPERTIES = {
+    ("conditions", "Condition"): ("fields", "size"),
+    ("changes", "Change"): ("assigned",),
+    ("shapes", "Shape"): ("carried",),
+    ("books", "Book"): ("full",),
+}
+
+
+def module(name):
+    return importlib.import_module("elseput." + name)
+
+
+def listed(table):
+    """The module's name, the class, and a name for each name that the table lists."""
+    return [(place[0], getattr(module(place[0]), place[1]), name) for place, names in table.items() for name in names]
+
+
+class Interface(Case):
+    def test_functions_are_defined_in_their_files(self):
+        for file, names in FUNCTIONS.items():
+            for name in names:
+                with self.subTest(name=name):
+                    function = getattr(module(file), name)
+                    self.assertIsInstance(function, types.FunctionType)
+                    self.assertEqual(function.__module__, "elseput." + file)
+
+    def test_methods_stand_in_the_bodies_of_their_classes(self):
+        for file, kind, name in listed(METHODS):
+            with self.subTest(kind=kind, name=name):
+                self.assertEqual(kind.__module__, "elseput." + file)
+                self.assertIsInstance(vars(kind)[name], types.FunctionType)
+
+    def test_static_methods_and_properties(self):
+        for _, kind, name in listed(STATIC):
+            with self.subTest(kind=kind, name=name):
+                self.assertIsInstance(vars(kind)[name], staticmethod)
+        for _, kind, name in listed(PROPERTIES):
+            with self.subTest(kind=kind, name=name):
+                self.assertIsInstance(vars(kind)[name], property)
+
+    def test_the_errors_are_defined_in_their_file(self):
+        errors = module("errors")
+        for name, kind in vars(errors).items():
+            if inspect.isclass(kind):
+                with self.subTest(name=name):
+                    self.assertEqual(kind.__module__, "elseput.errors")
+
+    def test_attributes_are_set_on_each_object(self):
+        always, none = Condition.always(), Change.none()
+        for thing, names in (
+            (always, ("tree",)), (~always, ("tree",)), (none, ("assignments",)), (none * 0, ("assignments",)),
+            (Shape("s", [("a", "tell")], always, none), ("name", "arms", "condition", "change")),
+            (Book(["a"], ["n"]), ("key_names", "field_names")),
+        ):
+            for name in names:
+                with self.subTest(thing=thing, name=name):
+                    self.assertTrue(hasattr(thing, name))
+
+    def test_contents_is_a_generator(self):
+        self.assertTrue(inspect.isgeneratorfunction(contents))
+
+    def test_arguments_have_the_names_of_the_interface(self):
+        self.assertIs(module("words").is_name(text="a"), True)
+        self.assertEqual(module("words").tokens(line="a"), [("a", 1)])
+        condition = Condition.compare(field="n", sign="<", number=1)
+        self.assertEqual(Condition.read(line="n < 1").tree, condition.tree)
+        self.assertIs(condition(content={"n": 0}), True)
+        self.assertEqual(list(contents(fields=["n"], conditions=[])), [{"n": 0}])
+        self.assertEqual(module("contents").least_content(fields=["n"], conditions=[]), {"n": 0})
+        self.assertIsNone(module("contents").parting_content(fields=["n"], first=condition, second=condition))
+        change = Change.adding(field="n", number=1)
+        self.assertEqual(Change.setting(field="n", number=1).text(), "set n 1")
+        self.assertEqual(Change.read(line="add n 1").text(), change.text())
+        self.assertEqual(change(content={"n": 0}), {"n": 1})
+        shape = Shape(name="s", arms=[("a", "change")], condition=condition, change=change)
+        self.assertEqual(shape.action(key="a"), "change")
+        self.assertEqual(Shape.read(line=shape.text()).text(), shape.text())
+        self.assertIsNone(module("shapes").parting_row(fields=["n"], first=shape, second=shape))
+        book = Book(key_names=["a"], field_names=["n"])
+        self.assertEqual(Book.read(text=book.text()).text(), book.text())
+        self.assertEqual(module("books").merged(first=book).text(), book.text())
+        table = module("tables").Table(key_names=["a"], field_names=["n"])
+        self.assertEqual(table.put(places={"a": 1}, content={"n": 1}), 0)
+        self.assertEqual(table.enter(places={"a": 1}, content={"n": 1}), 1)
+        self.assertIsNone(table.write(row=0, field="n", number=5))
+        self.assertEqual(table.content_of(row=0), {"n": 5})
