@@ -8,6 +8,9 @@ from elseput.books import Book
 from elseput.changes import Change
 from elseput.conditions import Condition
 from elseput.contents import contents
+from elseput.disciplines import Discipline
+from elseput.orders import KeyOrder, every_order
+from elseput.plans import Plan
 from elseput.shapes import Shape
 from tests.helpers import Case
 
@@ -16,6 +19,8 @@ FUNCTIONS = {
     "contents": ("contents", "least_content", "parting_content"),
     "shapes": ("parting_row",),
     "books": ("merged",),
+    "alone": ("answer", "demand", "run_batch"),
+    "orders": ("every_order",),
 }
 METHODS = {
     ("conditions", "Condition"): ("text", "__call__", "__and__", "__or__", "__invert__"),
@@ -25,18 +30,31 @@ METHODS = {
     ("tables", "Table"): (
         "__init__", "put", "enter", "__getitem__", "content_of", "rows", "write", "twin", "__len__",
     ),
+    ("orders", "KeyOrder"): (
+        "__init__", "__getitem__", "__contains__", "__len__", "__iter__", "__add__", "__radd__", "__iadd__", "__sub__",
+        "__invert__", "__call__",
+    ),
+    ("plans", "Plan"): (
+        "__init__", "text", "fits", "steps_before", "steps_to_look", "holds_at_look", "covers", "pairs", "__len__",
+        "__iter__",
+    ),
+    ("disciplines", "Discipline"): ("__init__", "__getitem__", "__setitem__", "__len__", "__iter__"),
+    ("locks", "LockTable"): ("__init__", "blockers", "take", "free", "free_all", "holders", "held"),
 }
 STATIC = {
     ("conditions", "Condition"): ("always", "never", "compare", "read"),
     ("changes", "Change"): ("none", "adding", "setting", "read"),
     ("shapes", "Shape"): ("read",),
     ("books", "Book"): ("read",),
+    ("plans", "Plan"): ("read",),
 }
 PROPERTIES = {
     ("conditions", "Condition"): ("fields", "size"),
     ("changes", "Change"): ("assigned",),
     ("shapes", "Shape"): ("carried",),
     ("books", "Book"): ("full",),
+    ("plans", "Plan"): ("waste",),
+    ("disciplines", "Discipline"): ("waste", "locks", "keeps"),
 }
 
 
@@ -85,13 +103,17 @@ class Interface(Case):
             (always, ("tree",)), (~always, ("tree",)), (none, ("assignments",)), (none * 0, ("assignments",)),
             (Shape("s", [("a", "tell")], always, none), ("name", "arms", "condition", "change")),
             (Book(["a"], ["n"]), ("key_names", "field_names")),
+            (KeyOrder(["a"]), ("names",)), (~KeyOrder([]), ("names",)),
+            (Plan([("look", "a")]), ("steps", "locked", "kept")),
+            (Discipline(Book(["a"], ["n"])), ("book",)),
         ):
             for name in names:
                 with self.subTest(thing=thing, name=name):
                     self.assertTrue(hasattr(thing, name))
 
-    def test_contents_is_a_generator(self):
-        self.assertTrue(inspect.isgeneratorfunction(contents))
+    def test_generators(self):
+        for function in (contents, every_order):
+            self.assertTrue(inspect.isgeneratorfunction(function))
 
     def test_arguments_have_the_names_of_the_interface(self):
         self.assertIs(module("words").is_name(text="a"), True)
@@ -118,3 +140,26 @@ class Interface(Case):
         self.assertEqual(table.enter(places={"a": 1}, content={"n": 1}), 1)
         self.assertIsNone(table.write(row=0, field="n", number=5))
         self.assertEqual(table.content_of(row=0), {"n": 5})
+
+    def test_arguments_have_the_names_of_the_interface_in_plans_and_locks(self):
+        book = Book(["a"], ["n"], Shape.read("s: a tell"))
+        table = module("tables").Table(["a"], ["n"])
+        told = ("s", {"a": 1}, {"n": 1})
+        self.assertEqual(module("alone").answer(book=book, table=table, statement=told), ("put", 0, (1,)))
+        self.assertEqual(module("alone").demand(book=book, table=table, statement=told), ("told", 0, (1,)))
+        self.assertEqual(module("alone").run_batch(book=book, table=table), [])
+        order = KeyOrder(names=["a"])
+        self.assertEqual(order(names=["a"]), ["a"])
+        self.assertEqual([found.names for found in every_order(names=["a"])], [("a",)])
+        plan = Plan(steps=[("take", "a"), ("look", "a")], locked=["a"], kept=["a"])
+        self.assertEqual(Plan.read(line=plan.text()).text(), plan.text())
+        self.assertIs(plan.fits(shape=book["s"]), True)
+        self.assertEqual((plan.steps_before(key="a"), plan.steps_to_look(key="a")), (0, 2))
+        self.assertEqual((plan.holds_at_look(key="a"), plan.covers(key="a")), (True, True))
+        self.assertEqual(len(Discipline(book=book)), 1)
+        locks = module("locks").LockTable()
+        self.assertIs(locks.take(place=("p",), writer=0, mode="hold"), True)
+        self.assertEqual(locks.blockers(place=("p",), writer=1, mode="share"), [0])
+        self.assertEqual((locks.holders(place=("p",)), locks.held(writer=0)), ([(0, "hold")], [("p",)]))
+        self.assertIs(locks.free(place=("p",), writer=0), True)
+        self.assertEqual(locks.free_all(writer=0), 0)
