@@ -1,10 +1,8 @@
 """Changes: what a statement does to the numbers of a row."""
 
-from elseput.checks import check_name, check_number
-from elseput.errors import BadNumber, TooLarge, UnknownField
+from elseput.checks import check_name, check_number, check_times
+from elseput.errors import TooLarge, UnknownField
 from elseput.reading import Reader
-
-MOST_TIMES = 1000
 
 
 class Change:
@@ -71,8 +69,7 @@ class Change:
         return Change((*both, *new))
 
     def __mul__(self, times):
-        if times < 0 or times > MOST_TIMES:
-            raise BadNumber(times)
+        check_times(times)
         if times == 0:
             return Change.none()
         return Change([repeated(part, times) for part in self.assignments])

@@ -4,6 +4,7 @@ from elseput.errors import BadName, BadNumber
 from elseput.words import is_name
 
 BOUND = 10 ** 30
+MOST_TIMES = 1000
 
 
 def in_bound(value):
@@ -21,3 +22,9 @@ def check_number(value):
     """Raise BadNumber if a number may not be given."""
     if not in_bound(value):
         raise BadNumber(value)
+
+
+def check_times(times):
+    """Raise BadNumber if nothing can be repeated so many times."""
+    if times < 0 or times > MOST_TIMES:
+        raise BadNumber(times)

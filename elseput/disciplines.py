@@ -27,6 +27,13 @@ class Discipline:
         """The number of kept keys of all plans."""
         return sum([len(plan.kept) for plan in self._plans.values()])
 
+    def twin(self):
+        """A discipline with the same book and the same plans that shares nothing with this one."""
+        other = Discipline(self.book)
+        for name, plan in self._plans.items():
+            other[name] = plan
+        return other
+
     def __getitem__(self, name):
         shape = self.book[name]
         return self._plans[shape.name]

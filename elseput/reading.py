@@ -52,6 +52,11 @@ class Reader:
         """Take an integer, and return its number."""
         return int(self._take_if(is_integer(self.ahead())))
 
+    def take_natural(self):
+        """Take an integer that is not negative, and return its number."""
+        token = self.ahead()
+        return int(self._take_if(is_integer(token) and token[0] != "-"))
+
     def take_one(self, words):
         """Take one of some tokens."""
         return self._take_if(self.ahead() in words)

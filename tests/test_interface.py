@@ -9,9 +9,13 @@ from elseput.changes import Change
 from elseput.conditions import Condition
 from elseput.contents import contents
 from elseput.disciplines import Discipline
+from elseput.machine import Machine
 from elseput.orders import KeyOrder, every_order
 from elseput.plans import Plan
+from elseput.retrying import RetryingMachine
 from elseput.shapes import Shape
+from elseput.tables import Table
+from elseput.weavings import Weaving, interleavings
 from tests.helpers import Case
 
 FUNCTIONS = {
@@ -21,6 +25,8 @@ FUNCTIONS = {
     "books": ("merged",),
     "alone": ("answer", "demand", "run_batch"),
     "orders": ("every_order",),
+    "weavings": ("interleavings",),
+    "replays": ("replay",),
 }
 METHODS = {
     ("conditions", "Condition"): ("text", "__call__", "__and__", "__or__", "__invert__"),
@@ -40,6 +46,14 @@ METHODS = {
     ),
     ("disciplines", "Discipline"): ("__init__", "__getitem__", "__setitem__", "__len__", "__iter__"),
     ("locks", "LockTable"): ("__init__", "blockers", "take", "free", "free_all", "holders", "held"),
+    ("machine", "Machine"): (
+        "__init__", "__call__", "play", "settle", "rows", "held", "recovered", "resumed", "undo",
+    ),
+    ("retrying", "RetryingMachine"): ("__init__",),
+    ("weavings", "Weaving"): (
+        "__init__", "text", "without", "__len__", "__iter__", "__add__", "__iadd__", "__mul__", "__rmul__", "__eq__",
+        "__lt__", "__le__",
+    ),
 }
 STATIC = {
     ("conditions", "Condition"): ("always", "never", "compare", "read"),
@@ -47,6 +61,7 @@ STATIC = {
     ("shapes", "Shape"): ("read",),
     ("books", "Book"): ("read",),
     ("plans", "Plan"): ("read",),
+    ("weavings", "Weaving"): ("read",),
 }
 PROPERTIES = {
     ("conditions", "Condition"): ("fields", "size"),
@@ -55,6 +70,10 @@ PROPERTIES = {
     ("books", "Book"): ("full",),
     ("plans", "Plan"): ("waste",),
     ("disciplines", "Discipline"): ("waste", "locks", "keeps"),
+    ("machine", "Machine"): (
+        "outcomes", "events", "faults", "waiting", "order", "unfinished", "ring", "ended", "stuck",
+    ),
+    ("retrying", "RetryingMachine"): ("restarts",),
 }
 
 
@@ -106,13 +125,14 @@ class Interface(Case):
             (KeyOrder(["a"]), ("names",)), (~KeyOrder([]), ("names",)),
             (Plan([("look", "a")]), ("steps", "locked", "kept")),
             (Discipline(Book(["a"], ["n"])), ("book",)),
+            (Weaving([]), ("turns",)), (Weaving([0]) * 2, ("turns",)),
         ):
             for name in names:
                 with self.subTest(thing=thing, name=name):
                     self.assertTrue(hasattr(thing, name))
 
     def test_generators(self):
-        for function in (contents, every_order):
+        for function in (contents, every_order, interleavings):
             self.assertTrue(inspect.isgeneratorfunction(function))
 
     def test_arguments_have_the_names_of_the_interface(self):
@@ -135,7 +155,7 @@ class Interface(Case):
         book = Book(key_names=["a"], field_names=["n"])
         self.assertEqual(Book.read(text=book.text()).text(), book.text())
         self.assertEqual(module("books").merged(first=book).text(), book.text())
-        table = module("tables").Table(key_names=["a"], field_names=["n"])
+        table = Table(key_names=["a"], field_names=["n"])
         self.assertEqual(table.put(places={"a": 1}, content={"n": 1}), 0)
         self.assertEqual(table.enter(places={"a": 1}, content={"n": 1}), 1)
         self.assertIsNone(table.write(row=0, field="n", number=5))
@@ -143,7 +163,7 @@ class Interface(Case):
 
     def test_arguments_have_the_names_of_the_interface_in_plans_and_locks(self):
         book = Book(["a"], ["n"], Shape.read("s: a tell"))
-        table = module("tables").Table(["a"], ["n"])
+        table = Table(["a"], ["n"])
         told = ("s", {"a": 1}, {"n": 1})
         self.assertEqual(module("alone").answer(book=book, table=table, statement=told), ("put", 0, (1,)))
         self.assertEqual(module("alone").demand(book=book, table=table, statement=told), ("told", 0, (1,)))
@@ -163,3 +183,19 @@ class Interface(Case):
         self.assertEqual((locks.holders(place=("p",)), locks.held(writer=0)), ([(0, "hold")], [("p",)]))
         self.assertIs(locks.free(place=("p",), writer=0), True)
         self.assertEqual(locks.free_all(writer=0), 0)
+
+    def test_arguments_have_the_names_of_the_interface_in_machines(self):
+        book = Book(["a"], ["n"], Shape.read("s: a tell"))
+        told = ("s", {"a": 1}, {"n": 1})
+        for kind in (Machine, RetryingMachine):
+            machine = kind(discipline=Discipline(book), table=Table(["a"], ["n"]), statements=[told])
+            self.assertEqual(machine(writer=0), (0, "take", "a"))
+            self.assertEqual(machine.held(writer=0), [("key", "a", 1)])
+            self.assertEqual(machine.undo(count=1).turns, (0,))
+            self.assertEqual(machine.play(turns=[0]), [(0, "take", "a")])
+        self.assertTrue(issubclass(RetryingMachine, Machine))
+        self.assertEqual(Weaving.read(line="0 1").without(writer=0).turns, (1,))
+        self.assertEqual([found.turns for found in interleavings(counts=[1])], [(0,)])
+        self.assertEqual(Weaving(turns=[2]).text(), "2")
+        found = module("replays").replay(book=book, table=Table(["a"], ["n"]), statements=[told], order=[])
+        self.assertEqual(found, ([], [None]))
