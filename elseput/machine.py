@@ -216,7 +216,7 @@ class Machine:
         if row is None:
             writer.step_on()
             return ("look", key)
-        writer.find(key, row)
+        writer.leave_plan(key, row)
         if writer.shape.action(key) == "refuse":
             return self._finish(number, "refuse", "refused", None)
         kept = [writer.key_place(key)] if key in writer.plan.kept else []

@@ -27,8 +27,8 @@ class Writer:
         """Go to the first step of the plan."""
         self.steps = (*self.plan.steps, ("put", None))
 
-    def find(self, key, row):
-        """Leave the plan for the row that was found under a key."""
+    def leave_plan(self, key, row):
+        """Go on with the row that was found under a key."""
         self.key = key
         self.row = row
         lock = [("lock", row)] if key in self.plan.locked else []
