@@ -15,9 +15,10 @@ class KeyOrder:
             raise BadOrder()
 
     def __getitem__(self, name):
-        if name not in self.names:
+        ranks = [rank for rank, other in enumerate(self.names) if other == name]
+        if len(ranks) == 0:
             raise UnknownKey(name)
-        return self.names.index(name)
+        return ranks[0]
 
     def __contains__(self, name):
         return name in self.names

@@ -50,12 +50,12 @@ class Plan:
         """The number of steps before the one that takes a key, or None."""
         self._check_looked_at(key)
         step = ("take", key)
-        return self.steps.index(step) if step in self.steps else None
+        return self._place(step) if step in self.steps else None
 
     def steps_to_look(self, key):
         """The number of steps up to the look at a key, this look included."""
         self._check_looked_at(key)
-        return self.steps.index(("look", key)) + 1
+        return self._place(("look", key)) + 1
 
     def holds_at_look(self, key):
         """Whether a key is held when the plan looks at it."""
@@ -83,8 +83,12 @@ class Plan:
 
     def _holds(self, key, step):
         """Whether a key has been taken and not been freed before a step."""
-        made = self.steps[:self.steps.index(step)]
+        made = self.steps[:self._place(step)]
         return ("take", key) in made and ("free", key) not in made
+
+    def _place(self, step):
+        """The number of steps before this one."""
+        return [at for at, other in enumerate(self.steps) if other == step][0]
 
 
 def looked_at(steps):

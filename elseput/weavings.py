@@ -10,6 +10,8 @@ class Weaving:
 
     def __init__(self, turns):
         self.turns = tuple(turns)
+        # Weavings compare by their length first; it is kept beside the turns, as all that they compare by is.
+        self._many = len(self.turns)
         for writer in self.turns:
             if writer < 0:
                 raise BadTurn(writer)
@@ -42,6 +44,7 @@ class Weaving:
 
     def __iadd__(self, other):
         self.turns = (*self.turns, *other.turns)
+        self._many = len(self.turns)
         return self
 
     def __mul__(self, times):
@@ -54,17 +57,17 @@ class Weaving:
     def __eq__(self, other):
         if not isinstance(other, Weaving):
             return NotImplemented
-        return (len(self.turns), self.turns) == (len(other.turns), other.turns)
+        return (self._many, self.turns) == (other._many, other.turns)
 
     def __lt__(self, other):
         if not isinstance(other, Weaving):
             return NotImplemented
-        return (len(self.turns), self.turns) < (len(other.turns), other.turns)
+        return (self._many, self.turns) < (other._many, other.turns)
 
     def __le__(self, other):
         if not isinstance(other, Weaving):
             return NotImplemented
-        return (len(self.turns), self.turns) <= (len(other.turns), other.turns)
+        return (self._many, self.turns) <= (other._many, other.turns)
 
 
 def interleavings(counts):

@@ -109,6 +109,28 @@ class Comparing(Case):
         self.assertEqual(min(weavings).turns, ())
         self.assertEqual([weaving.turns for weaving in sorted(weavings)], list(self.ASCENDING))
 
+    def test_point_61_comparing_what_has_been_added_to(self):
+        grown, other = Weaving([5]), Weaving([0, 1])
+        self.assertTrue(grown < other)
+        grown += Weaving([0])
+        self.assertTrue(other < grown and other <= grown)
+        self.assertFalse(grown < other or grown <= other or grown == other)
+        grown = Weaving([0])
+        grown += Weaving([1])
+        self.assertTrue(grown == other and grown <= other and other <= grown)
+        self.assertFalse(grown < other or other < grown or grown != other)
+        grown += grown
+        self.assertTrue(grown == Weaving([0, 1, 0, 1]) and Weaving([9, 9, 9]) < grown < Weaving([0, 1, 0, 2]))
+        weavings = [grown, Weaving([3, 0, 0, 0, 0]), other, Weaving([])]
+        self.assertEqual([len(weaving) for weaving in sorted(weavings)], [0, 2, 4, 5])
+        self.assertEqual((min(weavings).turns, max(weavings).turns), ((), (3, 0, 0, 0, 0)))
+
+    def test_point_61_what_was_made_of_a_weaving_compares_by_its_own_turns(self):
+        one = Weaving([1, 0])
+        longer, repeated, less = one + one, one * 2, one.without(1)
+        one += Weaving([7, 7, 7])
+        self.assertTrue(longer == repeated and longer < one and less < longer and less == Weaving([0]))
+
     def test_point_61_comparing_changes_nothing(self):
         one, two = Weaving([0]), Weaving([0, 1])
         self.assertTrue(one < two and one <= two and not one == two)
