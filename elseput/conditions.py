@@ -68,21 +68,9 @@ class Condition:
         return holds(self.tree, content)
 
     def __and__(self, other):
-        if self.tree == NEVER or other.tree == NEVER:
-            return Condition.never()
-        if self.tree == ALWAYS:
-            return Condition(other.tree)
-        if other.tree == ALWAYS:
-            return Condition(self.tree)
         return joined("and", self, other)
 
     def __or__(self, other):
-        if self.tree == ALWAYS or other.tree == ALWAYS:
-            return Condition.always()
-        if self.tree == NEVER:
-            return Condition(other.tree)
-        if other.tree == NEVER:
-            return Condition(self.tree)
         return joined("or", self, other)
 
     def __invert__(self):
@@ -97,10 +85,23 @@ def comparisons(tree):
 
 
 def joined(word, left, right):
-    """Two conditions, both neither always nor never, joined by a word."""
-    if left.size + right.size > Condition.MOST:
+    """Two conditions joined by a word."""
+    tree = joined_tree(word, left.tree, right.tree)
+    if len(comparisons(tree)) > Condition.MOST:
         raise TooLarge(Condition.MOST)
-    return Condition((word, left.tree, right.tree))
+    return Condition(tree)
+
+
+def joined_tree(word, left, right):
+    """Two trees joined by a word; always and never do not stay parts of it."""
+    deciding, idle = (NEVER, ALWAYS) if word == "and" else (ALWAYS, NEVER)
+    if left == deciding or right == deciding:
+        return deciding
+    if left == idle:
+        return right
+    if right == idle:
+        return left
+    return (word, left, right)
 
 
 def opposite(tree):
@@ -125,6 +126,16 @@ def holds(tree, content):
     if word == "or":
         return holds(tree[1], content) or holds(tree[2], content)
     return word == "always"
+
+
+def settled(tree, field, number):
+    """What a tree asks of the other fields where this field has this number."""
+    word = tree[0]
+    if word == "and" or word == "or":
+        return joined_tree(word, settled(tree[1], field, number), settled(tree[2], field, number))
+    if word == "compare" and tree[1] == field:
+        return ALWAYS if sign_holds(number, tree[2], tree[3]) else NEVER
+    return tree
 
 
 def sign_holds(left, sign, right):

@@ -1,6 +1,6 @@
 """Contents that are enough to tell conditions apart."""
 
-from elseput.conditions import comparisons
+from elseput.conditions import NEVER, comparisons, settled
 
 
 def contents(fields, conditions):
@@ -11,10 +11,9 @@ def contents(fields, conditions):
 
 def least_content(fields, conditions):
     """The first content for which all conditions hold, or None."""
-    for content in contents(fields, conditions):
-        if all([condition(content) for condition in conditions]):
-            return content
-    return None
+    names = tuple(fields)
+    numbers = least_numbers(names, compared_numbers(conditions), [condition.tree for condition in conditions])
+    return None if numbers is None else dict(zip(names, numbers))
 
 
 def parting_content(fields, first, second):
@@ -22,6 +21,22 @@ def parting_content(fields, first, second):
     for content in contents(fields, [first, second]):
         if first(content) != second(content):
             return content
+    return None
+
+
+def least_numbers(names, compared, trees):
+    """The first choice of one mark for each of these fields for which all trees hold, or None."""
+    if len(names) == 0:
+        return ()
+    tried = []
+    for number in marks(names[0], compared):
+        asked = [settled(tree, names[0], number) for tree in trees]
+        # Marks that leave the same things to ask of the later fields have the same end, so one of them is enough.
+        if NEVER not in asked and asked not in tried:
+            tried.append(asked)
+            later = least_numbers(names[1:], compared, asked)
+            if later is not None:
+                return (number, *later)
     return None
 
 

@@ -1,10 +1,11 @@
 """Contents: points 15 to 18."""
 
 import itertools
+import random
 
 from elseput.conditions import Condition
 from elseput.contents import contents, least_content, parting_content
-from tests.helpers import BOUND, Case
+from tests.helpers import BOUND, Case, drawn_condition
 
 read = Condition.read
 
@@ -102,6 +103,28 @@ class LeastContent(Case):
             found = least_content(["n"], conditions)
             self.assertEqual(found is not None, some)
             self.assertTrue(found is None or all(condition(found) for condition in conditions))
+
+
+    def test_point_17_is_the_first_of_the_contents(self):
+        rng = random.Random(17)
+        some = 0
+        for _ in range(300):
+            fields = rng.sample(["n", "m", "k"], rng.randint(1, 3))
+            conditions = [drawn_condition(rng, fields, most=5) for _ in range(rng.randint(0, 3))]
+            meeting = [content for content in contents(fields, conditions)
+                       if all(condition(content) for condition in conditions)]
+            found = least_content(fields, conditions)
+            self.assertEqual(found, meeting[0] if meeting else None)
+            self.assertTrue(found is None or list(found) == fields)
+            some += found is not None
+        self.assertTrue(50 < some < 250)
+
+    def test_points_3_and_17_what_is_given_stays_as_it_was(self):
+        fields, conditions = ["n", "m"], [read("n < 3 or m > 2"), read("m == 1")]
+        trees = [condition.tree for condition in conditions]
+        least_content(fields, conditions)["x"] = 1
+        self.assertEqual((fields, [condition.tree for condition in conditions]), (["n", "m"], trees))
+        self.assertEqual(least_content(tuple(fields), tuple(conditions)), {"n": 2, "m": 1})
 
 
 class PartingContent(Case):

@@ -9,12 +9,16 @@ from elseput.changes import Change
 from elseput.conditions import Condition
 from elseput.contents import contents
 from elseput.disciplines import Discipline
+from elseput.finding import standings
 from elseput.machine import Machine
 from elseput.orders import KeyOrder, every_order
 from elseput.plans import Plan
 from elseput.retrying import RetryingMachine
+from elseput.rings import obeyed_orders
 from elseput.shapes import Shape
+from elseput.standings import Meeting, Standing
 from elseput.tables import Table
+from elseput.visitors import pair_reasons, visitors
 from elseput.weavings import Weaving, interleavings
 from tests.helpers import Case
 
@@ -27,6 +31,9 @@ FUNCTIONS = {
     "orders": ("every_order",),
     "weavings": ("interleavings",),
     "replays": ("replay",),
+    "visitors": ("visitors", "pair_reasons"),
+    "finding": ("standings",),
+    "rings": ("obeyed_orders",),
 }
 METHODS = {
     ("conditions", "Condition"): ("text", "__call__", "__and__", "__or__", "__invert__"),
@@ -54,6 +61,8 @@ METHODS = {
         "__init__", "text", "without", "__len__", "__iter__", "__add__", "__iadd__", "__mul__", "__rmul__", "__eq__",
         "__lt__", "__le__",
     ),
+    ("standings", "Standing"): ("table", "statements", "weaving", "sentence"),
+    ("standings", "Meeting"): ("sentence",),
 }
 STATIC = {
     ("conditions", "Condition"): ("always", "never", "compare", "read"),
@@ -132,7 +141,7 @@ class Interface(Case):
                     self.assertTrue(hasattr(thing, name))
 
     def test_generators(self):
-        for function in (contents, every_order, interleavings):
+        for function in (contents, every_order, interleavings, standings, obeyed_orders):
             self.assertTrue(inspect.isgeneratorfunction(function))
 
     def test_arguments_have_the_names_of_the_interface(self):
@@ -199,3 +208,16 @@ class Interface(Case):
         self.assertEqual(Weaving(turns=[2]).text(), "2")
         found = module("replays").replay(book=book, table=Table(["a"], ["n"]), statements=[told], order=[])
         self.assertEqual(found, ([], [None]))
+
+    def test_arguments_have_the_names_of_the_interface_in_standings(self):
+        book = Book(["a"], ["n"], Shape.read("s: a tell"))
+        self.assertEqual(visitors(book=book), [("s", "a")])
+        discipline = Discipline(book=book)
+        self.assertEqual(pair_reasons(discipline=discipline), [(("s", "a"), ("s", "a"), "harmless")])
+        self.assertEqual([order.names for order in obeyed_orders(discipline=discipline)], [("a",)])
+        discipline["s"] = Plan([("look", "a")])
+        found = list(standings(discipline=discipline))
+        self.assertEqual([type(standing) for standing in found], [Standing])
+        for name in ("kind", "names", "path", "cost"):
+            self.assertIn(name, vars(found[0]))
+        self.assertTrue(issubclass(Meeting, Standing))
