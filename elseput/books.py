@@ -75,10 +75,15 @@ class Book:
 def merged(first, *others):
     """A new book with the shapes of all books, which have the same keys and fields."""
     for other in others:
-        if other.key_names != first.key_names or other.field_names != first.field_names:
-            raise BadBook()
+        check_alike(first, other)
     shapes = [shape for book in (first, *others) for shape in book]
     return Book(first.key_names, first.field_names, *shapes)
+
+
+def check_alike(first, other):
+    """Raise BadBook if two books do not have the same keys and fields in the same order."""
+    if other.key_names != first.key_names or other.field_names != first.field_names:
+        raise BadBook()
 
 
 def names_fit(key_names, field_names):

@@ -29,10 +29,7 @@ class Discipline:
 
     def twin(self):
         """A discipline with the same book and the same plans that shares nothing with this one."""
-        other = Discipline(self.book)
-        for name, plan in self._plans.items():
-            other[name] = plan
-        return other
+        return planned(self.book, list(self._plans.values()))
 
     def __getitem__(self, name):
         shape = self.book[name]
@@ -56,3 +53,11 @@ def plain_plan(shape):
     steps = [(deed, key) for key in shape.carried for deed in ("take", "look")]
     locked = [key for key, action in shape if action != "refuse"]
     return Plan(steps, locked=locked)
+
+
+def planned(book, plans):
+    """The discipline of a book with these plans, one for each of its shapes, in order."""
+    found = Discipline(book)
+    for shape, plan in zip(book, plans):
+        found[shape.name] = plan
+    return found

@@ -110,7 +110,7 @@ def drawn_discipline(rng, book):
 def drawn_table(rng, book, most=3):
     """A table of at most so many rows of which no two have the same value under one key."""
     found = Table(book.key_names, book.field_names)
-    for _ in range(rng.randint(0, most)):
+    for _ in range(rng.choice((0, rng.randint(0, most)))):
         keys = rng.sample(book.key_names, rng.randint(1, len(book.key_names)))
         places = {key: rng.randint(0, 3) for key in keys}
         if all(found[place] is None for place in places.items()):
@@ -119,12 +119,13 @@ def drawn_table(rng, book, most=3):
 
 
 def drawn_statements(rng, book, most=4):
-    """At most so many statements; many of them have a value in common."""
+    """At most so many statements; many of them have a value in common, and sometimes all."""
     shapes = list(book)
+    greatest = rng.choice((0, 1, 2, 2))
     found = []
     for _ in range(rng.randint(0, most) if shapes else 0):
         shape = rng.choice(shapes)
-        places = {key: rng.randint(0, 2) for key in shape.carried}
+        places = {key: rng.randint(0, greatest) for key in shape.carried}
         found.append((shape.name, places, {field: rng.randint(-3, 3) for field in book.field_names}))
     return found
 

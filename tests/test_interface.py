@@ -10,9 +10,11 @@ from elseput.conditions import Condition
 from elseput.contents import contents
 from elseput.disciplines import Discipline
 from elseput.finding import standings
+from elseput.judging import Verdict, judge
 from elseput.machine import Machine
 from elseput.orders import KeyOrder, every_order
 from elseput.plans import Plan
+from elseput.reports import Report
 from elseput.retrying import RetryingMachine
 from elseput.rings import obeyed_orders
 from elseput.shapes import Shape
@@ -34,6 +36,10 @@ FUNCTIONS = {
     "visitors": ("visitors", "pair_reasons"),
     "finding": ("standings",),
     "rings": ("obeyed_orders",),
+    "judging": ("judge",),
+    "parts": ("fault_kinds", "restricted"),
+    "rollouts": ("alongside", "compatible", "strictest", "bridge"),
+    "least": ("lazy_plan", "needed_locks", "needed_keeps", "lazy", "least", "best_order"),
 }
 METHODS = {
     ("conditions", "Condition"): ("text", "__call__", "__and__", "__or__", "__invert__"),
@@ -63,6 +69,8 @@ METHODS = {
     ),
     ("standings", "Standing"): ("table", "statements", "weaving", "sentence"),
     ("standings", "Meeting"): ("sentence",),
+    ("judging", "Verdict"): ("__bool__",),
+    ("reports", "Report"): ("__init__", "change_width", "lines"),
 }
 STATIC = {
     ("conditions", "Condition"): ("always", "never", "compare", "read"),
@@ -83,6 +91,7 @@ PROPERTIES = {
         "outcomes", "events", "faults", "waiting", "order", "unfinished", "ring", "ended", "stuck",
     ),
     ("retrying", "RetryingMachine"): ("restarts",),
+    ("reports", "Report"): ("width",),
 }
 
 
@@ -141,7 +150,7 @@ class Interface(Case):
                     self.assertTrue(hasattr(thing, name))
 
     def test_generators(self):
-        for function in (contents, every_order, interleavings, standings, obeyed_orders):
+        for function in (contents, every_order, interleavings, standings, obeyed_orders, Report.lines):
             self.assertTrue(inspect.isgeneratorfunction(function))
 
     def test_arguments_have_the_names_of_the_interface(self):
@@ -221,3 +230,35 @@ class Interface(Case):
         for name in ("kind", "names", "path", "cost"):
             self.assertIn(name, vars(found[0]))
         self.assertTrue(issubclass(Meeting, Standing))
+
+    def test_arguments_have_the_names_of_the_interface_in_judging_and_after_it(self):
+        book = Book(["a"], ["n"], Shape.read("s: a tell"))
+        found = Discipline(book)
+        verdict = judge(discipline=found)
+        self.assertIs(type(verdict), Verdict)
+        self.assertEqual((verdict.safe, verdict.standing, verdict.order.names), (True, None, ("a",)))
+        for name in ("safe", "standing", "order"):
+            self.assertIn(name, vars(verdict))
+        parts, rollouts, least = module("parts"), module("rollouts"), module("least")
+        self.assertEqual(parts.fault_kinds(discipline=found), [])
+        self.assertEqual(len(parts.restricted(discipline=found, names=["s"])), 1)
+        self.assertEqual(len(rollouts.alongside(first=found, second=found, names=["t"])), 2)
+        self.assertIs(rollouts.compatible(first=found, second=found), True)
+        order = least.best_order(book=book)
+        self.assertEqual(len(rollouts.strictest(book=book, order=order)), 1)
+        self.assertEqual(rollouts.bridge(old=found, new=found), [])
+        plan = least.lazy_plan(shape=book["s"], order=order, locked=("a",), kept=("a",))
+        self.assertEqual(plan.text(), "take a, look a; lock a; keep a")
+        self.assertEqual((least.needed_locks(book=book), least.needed_keeps(book=book)), ([], []))
+        self.assertEqual([len(least.lazy(book=book, order=order)), len(least.least(book=book))], [1, 1])
+        report = Report(machine=Machine(found, Table(["a"], ["n"]), []), width=5)
+        self.assertIsNone(report.change_width(value=6))
+        self.assertEqual((report.width, list(report.lines())), (6, []))
+
+    def test_widths_and_keys_are_given_by_name_only(self):
+        machine = Machine(Discipline(Book(["a"], ["n"])), Table(["a"], ["n"]), [])
+        shape, order = Shape.read("s: a tell"), KeyOrder(["a"])
+        for call in (lambda: Report(machine, 5), lambda: module("least").lazy_plan(shape, order, ["a"]),
+                     lambda: Plan([("look", "a")], ["a"])):
+            with self.assertRaises(TypeError):
+                call()

@@ -4,8 +4,16 @@ import time
 
 from elseput.disciplines import Discipline
 from elseput.finding import standings
+from elseput.judging import judge
+from elseput.least import best_order, lazy, lazy_plan, least, needed_keeps, needed_locks
+from elseput.machine import Machine
+from elseput.orders import KeyOrder
+from elseput.parts import fault_kinds, restricted
 from elseput.plans import Plan
+from elseput.reports import Report
 from elseput.rings import obeyed_orders
+from elseput.rollouts import alongside, bridge, compatible, strictest
+from elseput.tables import Table
 from elseput.visitors import pair_reasons, visitors
 from tests.helpers import Case, largest_book
 
@@ -40,6 +48,10 @@ def bare(book):
     for shape in book:
         found[shape.name] = Plan([("look", key) for key in shape.carried])
     return found
+
+
+def texts(found):
+    return [(name, plan.text()) for name, plan in found]
 
 
 class Largest(Case):
@@ -92,3 +104,41 @@ class Largest(Case):
             begun = time.perf_counter()
             self.assertTrue(all(len(standing.weaving()) == standing.cost for standing in every))
             self.assertLess(time.perf_counter() - begun, 5)
+
+    def test_judging_and_parts(self):
+        for found in self.disciplines():
+            verdict = self.soon(judge, found)
+            self.assertIs(verdict.safe, False)
+            self.assertIn(verdict.standing.kind, self.soon(fault_kinds, found))
+            part = self.soon(restricted, found, list("zyxwvu") * 2)
+            self.assertEqual(texts(part), texts(found))
+
+    def test_the_least_discipline(self):
+        for book in (largest_book(), largest_book("add n 1, add m 1, add k 1"), hard_book()):
+            self.assertEqual(len(self.soon(needed_locks, book)), 24)
+            self.assertEqual(self.soon(needed_keeps, book), [])
+            order = self.soon(best_order, book)
+            found = self.soon(least, book)
+            self.assertEqual(texts(found), texts(self.soon(lazy, book, order)))
+            self.assertEqual(len(self.soon(lazy_plan, book["u"], order)), 8)
+            self.assertIs(self.soon(judge, found).safe, True)
+
+    def test_two_disciplines_at_work(self):
+        for book in (largest_book(), largest_book("add n 1, add m 1, add k 1"), hard_book()):
+            found, order = least(book), best_order(book)
+            other = self.soon(strictest, book, order)
+            kept = strictest(largest_book("add n 1"), order)
+            self.assertEqual(self.soon(bridge, found, other), [])
+            self.assertIs(self.soon(compatible, found, kept), True)
+            self.assertIs(self.soon(compatible, found, longest(book)), False)
+            self.assertIsNone(self.soon(bridge, found, strictest(book, ~order)))
+            half = restricted(found, "uvw")
+            self.assertEqual(len(self.soon(alongside, half, half, ("aa", "bb", "cc"))), 6)
+
+    def test_a_report_of_twelve_writers(self):
+        book = largest_book()
+        ones = [(name, dict.fromkeys("abcd", 0), dict.fromkeys("nmk", 0)) for name in "uvwxyzuvwxyz"]
+        machine = Machine(strictest(book, KeyOrder("abcd")), Table(book.key_names, book.field_names), ones)
+        self.soon(machine.settle)
+        self.assertEqual((machine.ended, machine.faults), (True, []))
+        self.assertEqual(len(self.soon(list, Report(machine).lines())), len(machine.events))

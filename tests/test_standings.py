@@ -69,6 +69,14 @@ class Kinds(Case):
         self.check(found, "doubled: s s at a in 4 turns", [("s", {"a": 0}, {"n": 0}), ("s", {"a": 0}, {"n": 0})], [],
                    "0 1 0 1")
 
+    def test_doubled_where_a_key_is_taken_behind_its_look(self):
+        found = discipline("keys a\nfields n\ns: a refuse\nt: a refuse", t="look a, take a")
+        ones = [("s", {"a": 0}, {"n": 0}), ("t", {"a": 0}, {"n": 0})]
+        self.check(found, "doubled: s t at a in 6 turns", ones, [], "0 0 1 0 1 1")
+        self.check(found, "doubled: t t at a in 6 turns", [("t", {"a": 0}, {"n": 0})] * 2, [], "0 0 1 0 1 1")
+        found = discipline("keys a\nfields n\ns: a refuse\nt: a refuse", s="look a, take a")
+        self.check(found, "doubled: s t at a in 6 turns", ones, [], "0 1 1 1 0 0")
+
     def test_lost(self):
         found = discipline(
             HEAD + "s: a change; when n < 3; add n 1\nt: b tell, c change; when n > 1 and m == 7; set n 0",
