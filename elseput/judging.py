@@ -10,7 +10,13 @@ class Verdict:
     def __init__(self, standing, order):
         self.safe = standing is None
         self.standing = standing
-        self.order = order
+        # A machine has `order` as a property without a setter, so no class stores an attribute of that name.
+        self._order = order
+
+    @property
+    def order(self):
+        """The first order that the discipline obeys, or None."""
+        return self._order
 
     def __bool__(self):
         return bool(self.safe)

@@ -237,8 +237,9 @@ class Interface(Case):
         verdict = judge(discipline=found)
         self.assertIs(type(verdict), Verdict)
         self.assertEqual((verdict.safe, verdict.standing, verdict.order.names), (True, None, ("a",)))
-        for name in ("safe", "standing", "order"):
+        for name in ("safe", "standing"):
             self.assertIn(name, vars(verdict))
+        self.assertIs(verdict.order, verdict.order)
         parts, rollouts, least = module("parts"), module("rollouts"), module("least")
         self.assertEqual(parts.fault_kinds(discipline=found), [])
         self.assertEqual(len(parts.restricted(discipline=found, names=["s"])), 1)

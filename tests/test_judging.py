@@ -86,6 +86,14 @@ class Judging(Case):
         order += "c"
         self.assertEqual(judge(found).order.names, ("b", "a"))
 
+    def test_points_3_and_76_the_order_of_a_verdict_is_the_one_at_the_judging(self):
+        found = discipline(HEAD + "s: a tell, b tell\nt: a tell, b tell")
+        verdict = judge(found)
+        found["s"] = Plan.read("take b, take a, look a, look b")
+        self.assertIsNone(judge(found).order)
+        self.assertEqual(verdict.order.names, ("a", "b"))
+        self.assertIs(verdict.order, verdict.order)
+
     def test_points_74_and_76_drawn_disciplines(self):
         rng = random.Random(76)
         safe = 0
